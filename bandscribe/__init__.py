@@ -1,0 +1,1 @@
+"""Bandscribe: writing on bands on which some words may never stand."""
