@@ -97,6 +97,10 @@ class Band:
         if not isinstance(place, str) or place not in self.moves:
             raise NoPlace(place)
 
+    def check_live(self, place):
+        if not isinstance(place, str) or place not in self.lasting:
+            raise NoPlace(place)
+
     def is_good(self, row):
         self.check_row(row)
         return not bears_barred(row, self.barred)

@@ -13,22 +13,25 @@ def all_ends(band):
     return ends
 
 
-def counts_at(band, length):
+def counts_up_to(band, length):
+    # One dict from places to counts for each length from 0 on, since each is made of the one ahead of it.
     ends = all_ends(band)
     counts = {}
     for place in ends:
         counts[place] = 1
+    table = [counts]
     for step in range(length):
         longer = {}
         for place in ends:
             longer[place] = sum([counts[end] for end in ends[place]])
+        table.append(longer)
         counts = longer
-    return counts
+    return table
 
 
 def count_from(band, place, length):
     band.check_place(place)
-    return counts_at(band, length)[place]
+    return counts_up_to(band, length)[-1][place]
 
 
 def count(band, length):

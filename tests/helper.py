@@ -1,7 +1,19 @@
 """Bands to ask, and what DOC.md says of them, worked out the slow way straight from its words."""
 
+import functools
 import itertools
 import random
+import unittest
+
+from bandscribe.errors import BandError
+
+
+class Refusing(unittest.TestCase):
+    def refused(self, error_class, call, *given):
+        with self.assertRaises(BandError) as caught:
+            call(*given)
+        self.assertEqual(type(caught.exception), error_class, given)
+        return caught.exception
 
 
 def texts_up_to(signs, most):
@@ -44,9 +56,12 @@ def places(signs, barred):
     return sorted(found)
 
 
+def longest_end(found, row):
+    return max([place for place in found if row.endswith(place)], key=len)
+
+
 def place_behind(signs, barred, row):
-    ends = [place for place in places(signs, barred) if row.endswith(place)]
-    return max(ends, key=len)
+    return longest_end(places(signs, barred), row)
 
 
 def led(signs, barred, place, sign):
@@ -74,6 +89,53 @@ def live(signs, barred):
     # A row that passes more places than there are passes one twice, and can go round for ever.
     found = places(signs, barred)
     return [place for place in found if counts_behind(signs, barred, place, len(found) + 1)[-1] > 0]
+
+
+def rows_of(signs, length):
+    """All rows of a length, good or not, in the signs' order."""
+    return ["".join(row) for row in itertools.product(signs, repeat=length)]
+
+
+def good_rows(signs, barred, length):
+    return [row for row in rows_of(signs, length) if good(barred, row)]
+
+
+def shortest_bad(barred, row):
+    return min(length for length in range(len(row) + 1) if not good(barred, row[:length]))
+
+
+def most_wide(signs):
+    return max(wide for wide in range(1, 7) if len(signs) ** wide <= 64)
+
+
+def blocks(signs, barred, wide):
+    """A dict from each live place to its list of pairs (word, end); to be read only, since it is kept."""
+    return blocks_kept(signs, tuple(barred), wide)
+
+
+@functools.lru_cache(maxsize=None)
+def blocks_kept(signs, barred, wide):
+    found, lasting = places(signs, barred), live(signs, barred)
+    told = {}
+    for place in lasting:
+        rows = [row for row in rows_of(signs, wide) if good(barred, place + row)]
+        pairs = [(row, longest_end(found, place + row)) for row in rows]
+        told[place] = [(row, end) for row, end in pairs if end in lasting]
+    return told
+
+
+def weights_fit(blocks_told, many, weights):
+    return all(sum(weights[end] for word, end in blocks_told[place]) >= many * weights[place] for place in blocks_told)
+
+
+def all_weights(lasting, most):
+    return [dict(zip(lasting, pick)) for pick in itertools.product(range(most + 1), repeat=len(lasting))]
+
+
+def no_whole_numbers():
+    """Things of each kind that are no whole numbers, truths first."""
+    return [True, False, None, "", "0", "1", "2", 1.0, 2.0, 0.5, 1j, float("inf"), float("nan"), b"1", [], [1], [[]], (),
+            (1,), {}, {1: 1}, {1}, frozenset(), object(), int]
 
 
 def no_places():

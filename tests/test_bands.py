@@ -4,6 +4,7 @@ import unittest
 import helper
 from bandscribe.bands import Band
 from bandscribe.errors import BandError, Barred, NoPlace, NoRow, NoSigns, NoWord, TooMany
+from helper import Refusing
 
 NO_TEXTS = [None, 0, 12, True, False, 1.5, b"ab", [], ["a", "b"], ("a", "b"), {}, {"a": 1, "b": 2}, {"a", "b"},
             frozenset("ab"), object(), str]
@@ -12,14 +13,6 @@ NO_TEXTS = [None, 0, 12, True, False, 1.5, b"ab", [], ["a", "b"], ("a", "b"), {}
 # a full-width a and a full-width one, and a lone surrogate.
 OTHER_SIGNS = ["A", "Z", " ", "_", "-", "`", "{", "/", ":", "\n", "\t", "\0", "\x7f", "\u00e9", "\u00df", "\u03b1",
                "\u0430", "\u0663", "\u00b2", "\uff41", "\uff11", "\ud800"]
-
-
-class Refusing(unittest.TestCase):
-    def refused(self, error_class, call, *given):
-        with self.assertRaises(BandError) as caught:
-            call(*given)
-        self.assertEqual(type(caught.exception), error_class, given)
-        return caught.exception
 
 
 class Signs(Refusing):
@@ -179,7 +172,7 @@ class Rows(Refusing):
                 if helper.good(barred, row):
                     self.assertEqual(band.place_of(row), helper.place_behind(signs, barred, row), (barred, row))
                 else:
-                    least = min(n for n in range(len(row) + 1) if not helper.good(barred, row[:n]))
+                    least = helper.shortest_bad(barred, row)
                     self.assertEqual(self.refused(Barred, band.place_of, row).length, least)
 
     def test_rows_of_mixed_bands(self):
@@ -192,7 +185,7 @@ class Rows(Refusing):
                 if helper.good(barred, row):
                     self.assertEqual(band.place_of(row), helper.place_behind(signs, barred, row), (barred, row))
                 else:
-                    least = min(n for n in range(len(row) + 1) if not helper.good(barred, row[:n]))
+                    least = helper.shortest_bad(barred, row)
                     self.assertEqual(self.refused(Barred, band.place_of, row).length, least)
 
     def test_long_rows(self):

@@ -3,10 +3,11 @@ import unittest
 import helper
 from bandscribe.bands import Band
 from bandscribe.counts import count, count_from
-from bandscribe.errors import BandError, NoPlace
+from bandscribe.errors import NoPlace
+from helper import Refusing
 
 
-class Counts(unittest.TestCase):
+class Counts(Refusing):
     def test_one_by_one(self):
         for signs, barred in helper.small_bands():
             band = Band(signs, barred)
@@ -82,10 +83,7 @@ class Counts(unittest.TestCase):
             band = Band("ab", barred)
             for thing in helper.no_places() + ["abba", "bb", "ba"]:
                 for length in (0, 1, 200):
-                    with self.assertRaises(BandError) as caught:
-                        count_from(band, thing, length)
-                    self.assertEqual(type(caught.exception), NoPlace)
-                    self.assertEqual(caught.exception.place, thing)
+                    self.assertEqual(self.refused(NoPlace, count_from, band, thing, length).place, thing)
 
     def test_a_band_stays_as_it_was(self):
         band = Band("ab", ["abb", "bb"])
