@@ -7,10 +7,6 @@ from bandscribe.rates import fits, greatest, scarce
 from helper import Refusing
 
 
-def rates_of(signs):
-    return [(many, wide) for many in range(2, 9) for wide in range(1, helper.most_wide(signs) + 1)]
-
-
 def asked_bands():
     return helper.small_bands() + helper.mixed_bands(40)
 
@@ -64,7 +60,7 @@ class Fits(Refusing):
     def test_noughts_fit_always(self):
         for signs, barred in asked_bands():
             band = Band(signs, barred)
-            for many, wide in rates_of(signs):
+            for many, wide in helper.rates_of(signs):
                 self.assertIs(fits(band, many, wide, {place: 0 for place in band.live()}), True)
 
     def test_without_live_places(self):
@@ -93,7 +89,7 @@ class Greatest(Refusing):
     def test_all_weights_gone_through(self):
         for signs, barred in helper.small_bands() + helper.mixed_bands(20):
             band = Band(signs, barred)
-            for many, wide in rates_of(signs):
+            for many, wide in helper.rates_of(signs):
                 if many in (2, 3, 5, 7):
                     most = {0: 4, 1: 4, 2: 3, 3: 2, 4: 1}.get(len(band.live()), 0)
                     if most:
@@ -122,7 +118,7 @@ class Greatest(Refusing):
     def test_many_places(self):
         for signs, barred in helper.mixed_bands():
             band = Band(signs, barred)
-            for many, wide in rates_of(signs):
+            for many, wide in helper.rates_of(signs):
                 told = helper.blocks(signs, barred, wide)
                 for most in (1, 8):
                     found = greatest(band, many, wide, most)
@@ -164,7 +160,7 @@ class ScarceLengths(Refusing):
         for signs, barred in asked_bands():
             band = Band(signs, barred)
             counts = helper.counts_behind(signs, barred, "", 24 * 6)
-            for many, wide in rates_of(signs):
+            for many, wide in helper.rates_of(signs):
                 told = scarce(band, many, wide, 24)
                 self.assertEqual(told, self.least(counts, many, wide, 24), (signs, barred, many, wide))
                 for most in (1, 7):
@@ -203,7 +199,7 @@ class ScarceLengths(Refusing):
         seen = 0
         for signs, barred in asked_bands():
             band = Band(signs, barred)
-            for many, wide in rates_of(signs):
+            for many, wide in helper.rates_of(signs):
                 if scarce(band, many, wide, 24) is not None:
                     seen += 1
                     for most in (1, 3, 8):
